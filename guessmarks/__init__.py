@@ -1,0 +1,1 @@
+"""Guessmarks: hidden words and marked guesses."""

@@ -1,0 +1,32 @@
+"""Checks of arguments that several modules share."""
+
+from guessmarks.errors import InvalidMarks, InvalidWord
+
+MARKS = "012"
+
+
+def is_integer_within(value, least, most):
+    """Tell whether the value is an integer from least to most."""
+    # Python counts True and False as integers, and the document does not.
+    if isinstance(value, bool) or not isinstance(value, int):
+        return False
+    return least <= value <= most
+
+
+def is_text_over(value, characters, length):
+    """Tell whether the value is a string of this length that has only these characters."""
+    if not isinstance(value, str) or len(value) != length:
+        return False
+    return all([character in characters for character in value])
+
+
+def check_word(board, word):
+    """Raise InvalidWord unless this is a word of the board."""
+    if not is_text_over(word, board.letters, board.length):
+        raise InvalidWord(word)
+
+
+def check_marks(board, told):
+    """Raise InvalidMarks unless this is a string of marks of the board."""
+    if not is_text_over(told, MARKS, board.length):
+        raise InvalidMarks(told)

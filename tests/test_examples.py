@@ -1,0 +1,43 @@
+"""The examples of the document, word for word, and those of README.md."""
+
+import doctest
+import unittest
+from pathlib import Path
+
+README = Path(__file__).parent.parent / "README.md"
+
+MARKING = '''
+>>> from guessmarks.boards import Board
+>>> from guessmarks.marking import can_come, marks
+>>> board = Board("abc", 3)
+>>> [board.size, board.word(5), board.number("bac"), str(board), repr(board)]
+[27, 'abc', 11, 'abc 3', 'Board(abc 3)']
+>>> [marks(board, "aab", "aba"), marks(board, "aaa", "aba"), marks(board, "bbc", "abb"), marks(board, "bbb", "abb")]
+['211', '202', '120', '022']
+>>> [can_come(board, "aab", "010"), can_come(board, "abc", "221"), can_come(board, "abc", "100")]
+[False, False, False]
+'''
+
+
+def failures_of(text, name):
+    """Return what doctest says of the examples that fail."""
+    told = []
+    example = doctest.DocTestParser().get_doctest(text, {}, name, None, 0)
+    doctest.DocTestRunner(verbose=False).run(example, out=told.append)
+    return len(example.examples), "".join(told)
+
+
+class ExamplesTest(unittest.TestCase):
+    def test_marking(self):
+        self.assertEqual(failures_of(MARKING, "marking"), (6, ""))
+
+    def test_readme(self):
+        # A fence would be taken for a part of the result above it.
+        text = README.read_text(encoding="utf-8").replace("```", "")
+        many, told = failures_of(text, "README.md")
+        self.assertGreater(many, 0)
+        self.assertEqual(told, "")
+
+
+if __name__ == "__main__":
+    unittest.main()
