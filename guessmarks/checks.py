@@ -20,13 +20,30 @@ def is_text_over(value, characters, length):
     return all([character in characters for character in value])
 
 
+def is_word(board, value):
+    """Tell whether the value is a word of the board."""
+    return is_text_over(value, board.letters, board.length)
+
+
+def are_marks(board, value):
+    """Tell whether the value is a string of marks of the board."""
+    return is_text_over(value, MARKS, board.length)
+
+
+def is_row(board, value):
+    """Tell whether the value is a row of the board: a pair of a word and of its marks."""
+    if not isinstance(value, tuple) or len(value) != 2:
+        return False
+    return is_word(board, value[0]) and are_marks(board, value[1])
+
+
 def check_word(board, word):
     """Raise InvalidWord unless this is a word of the board."""
-    if not is_text_over(word, board.letters, board.length):
+    if not is_word(board, word):
         raise InvalidWord(word)
 
 
 def check_marks(board, told):
     """Raise InvalidMarks unless this is a string of marks of the board."""
-    if not is_text_over(told, MARKS, board.length):
+    if not are_marks(board, told):
         raise InvalidMarks(told)

@@ -18,6 +18,27 @@ MARKING = '''
 [False, False, False]
 '''
 
+TABLES = '''
+>>> from guessmarks.samples import sample_history
+>>> from guessmarks.tables import is_possible, is_sure, same_words, table
+>>> history = sample_history()
+>>> table(history)
+(('bce', 'ce', 'c', 'bce'), ((0, 0), (1, 2), (1, 2), (0, 0), (1, 2)))
+>>> [is_possible(history, ("at", 0, "c"), ("least", "e", 2)), is_possible(history, ("at", 0, "e"), ("most", "e", 1)), is_sure(history, ("at", 2, "c")), is_sure(history, ("not", 3, "e"))]
+[False, True, True, False]
+>>> [same_words(history, history.then("dddd", "0000")), same_words(history, history.without(0)), table(history.then("bcce", "0000"))]
+[True, False, None]
+'''
+
+# The lines about guessmarks.counting in the example of guessmarks/guessing.py.
+COUNTING = '''
+>>> from guessmarks.counting import count, count_with, nth_word, place_of
+>>> from guessmarks.samples import sample_history
+>>> history = sample_history()
+>>> [count(history), nth_word(history, 0), place_of(history, "bece"), count_with(history, ("at", 1, "e"))]
+[7, 'bcce', 3, 5]
+'''
+
 
 def failures_of(text, name):
     """Return what doctest says of the examples that fail."""
@@ -30,6 +51,12 @@ def failures_of(text, name):
 class ExamplesTest(unittest.TestCase):
     def test_marking(self):
         self.assertEqual(failures_of(MARKING, "marking"), (6, ""))
+
+    def test_tables(self):
+        self.assertEqual(failures_of(TABLES, "tables"), (6, ""))
+
+    def test_counting(self):
+        self.assertEqual(failures_of(COUNTING, "counting"), (4, ""))
 
     def test_readme(self):
         # A fence would be taken for a part of the result above it.
