@@ -1,6 +1,6 @@
 """How many words are left, and their numbers."""
 
-from guessmarks.checks import check_word, is_integer_within
+from guessmarks.checks import is_integer_within
 from guessmarks.errors import InvalidNumber, WordNotLeft
 from guessmarks.facts import check_facts
 from guessmarks.histories import check_history
@@ -25,7 +25,7 @@ def nth_word(history, number):
 def place_of(history, word):
     """Return the number of the word among the words that are left."""
     check_history(history)
-    check_word(history.board, word)
+    # What is no word at all is refused by the history itself.
     if not history.fits(word):
         raise WordNotLeft(word)
     return Words(history.board, history.rows, ()).place_of_word(word)

@@ -13,8 +13,9 @@ class Words:
 
     def __init__(self, board, rows, facts):
         bounds = Bounds(board, rows, facts)
-        in_order = all([is_in_order(guess, told) for guess, told in rows])
-        usable = "".join([letter for letter in board.letters if in_order and bounds.greatest[letter] > 0])
+        usable = "".join([letter for letter in board.letters if bounds.greatest[letter] > 0])
+        if not all([is_in_order(guess, told) for guess, told in rows]):
+            usable = ""
         self.allowed = [common_letters(letters, usable) for letters in bounds.allowed]
         self.counted = counted_letters(board, bounds)
         self.least = [bounds.least[letter] for letter in self.counted]

@@ -19,6 +19,29 @@ class Plain:
     """An object of a kind that no part of the package knows."""
 
 
+class Agreeing:
+    """Says that it is equal to everything."""
+
+    def __eq__(self, other):
+        return True
+
+    def __ne__(self, other):
+        return False
+
+
+class Raising:
+    """Cannot be compared and has no length and no truth."""
+
+    def __eq__(self, other):
+        raise RuntimeError("compared")
+
+    def __bool__(self):
+        raise RuntimeError("tested")
+
+    def __len__(self):
+        raise RuntimeError("measured")
+
+
 class Lookalike:
     """Has what a board has, and is none."""
 
@@ -200,26 +223,26 @@ def chosen_cases():
 
 
 def no_facts(board):
-    """Return what is no fact of a board with the letters abc and the length 3, and not with other lengths either."""
+    """Return what is no fact of the board abc 3."""
     wrong = []
     for kind in ("", "AT", "At", "at ", " at", "in", "att", "a", "nota", "atnot", "Least", "leastmost", "exactly", None,
-                 True, 0, 1, b"at", ("at",), ["at"], {"at": 1}, Plain(), nested(13)):
+                 True, 0, 1, b"at", ("at",), ["at"], {"at": 1}, Plain(), Agreeing(), Raising(), nested(13)):
         wrong += [(kind, 0, "a"), (kind, "a", 0)]
     for kind in ("at", "not"):
         wrong += [(kind, place, "a") for place in (
             -1, -3, 3, 4, 10 ** 19, -(10 ** 19), True, False, None, "0", "1", "", "a", (), (0,), [0], {0: 0}, b"0",
-            board, nested(13))]
+            board, Agreeing(), Raising(), nested(13))]
         wrong += [(kind, 0, letter) for letter in (
             "d", "z", "A", "B", "", "ab", "abc", "aa", " a", "a ", "a\n", " ", "0", "\u00e4", 0, 1, None, True, False,
-            (), ("a",), ["a"], {"a": 1}, b"a", board, nested(13))]
+            (), ("a",), ["a"], {"a": 1}, b"a", board, Agreeing(), Raising(), nested(13))]
         wrong += [(kind, "a", 0), (kind, True, True), (kind, None, None)]
     for kind in ("least", "most"):
         wrong += [(kind, "a", number) for number in (
             -1, -3, 4, 5, 10 ** 19, -(10 ** 19), True, False, None, "0", "1", "", "a", (), (1,), [1], {1: 1}, b"1",
-            board, nested(13))]
+            board, Agreeing(), Raising(), nested(13))]
         wrong += [(kind, letter, 1) for letter in (
             "d", "z", "A", "B", "", "ab", "abc", "aa", " a", "a ", "a\n", " ", "0", "\u00e4", 0, 1, None, True, False,
-            (), ("a",), ["a"], {"a": 1}, b"a", board, nested(13))]
+            (), ("a",), ["a"], {"a": 1}, b"a", board, Agreeing(), Raising(), nested(13))]
         wrong += [(kind, 0, "a"), (kind, 1, "a"), (kind, True, True), (kind, None, None)]
     for kind, first, second in (("at", 0, "a"), ("not", 0, "a"), ("least", "a", 1), ("most", "a", 1)):
         wrong += [[kind, first, second], (kind,), (kind, first), (first, second), (kind, first, second, second),

@@ -4,10 +4,11 @@ import unittest
 
 from guessmarks import histories
 from guessmarks.boards import Board
-from guessmarks.errors import (InvalidMarks, InvalidPlace, InvalidRows, InvalidWord, NotABoard, TooManyRows)
+from guessmarks.errors import InvalidMarks, InvalidPlace, InvalidRows, InvalidWord, NotABoard, TooManyRows
 from guessmarks.histories import History
-from tests.support import (ALPHABET, SMALL_BOARDS, HistoryLookalike, all_rows, all_words, chosen_cases,
-                           marks_by_definition, nested, no_histories, refused, refuses_value, strange_objects)
+from tests.support import (ALPHABET, SMALL_BOARDS, Agreeing, HistoryLookalike, Raising, all_rows, all_words,
+                           chosen_cases, marks_by_definition, nested, no_histories, refused, refuses_value,
+                           strange_objects)
 
 BOARD = Board("abc", 3)
 LARGEST = Board(ALPHABET, 6)
@@ -26,6 +27,7 @@ NO_ROWS = [["abc", "012"], ("abc",), ("012",), (), ("abc", "012", "abc"), ("abc"
            ("abc", {"0": 1, "1": 1, "2": 1}), ({"a": 1, "b": 1, "c": 1}, "012"), ("abc", b"012"), (b"abc", "012"),
            (("abc", "012"),), (("abc", "012"), ("abc", "012")), [("abc", "012")], ("abc", nested(14)),
            (nested(14), "012"), nested(15), {"abc": "012"}, {"abc", "012"}, "abc 012", "abc012", "ab", "", 0, 12, -1,
+           ("abc", Agreeing()), (Agreeing(), "012"), ("abc", Raising()), (Raising(), "012"), Agreeing(), Raising(),
            Board("abc", 3), History(Board("abc", 3)), History(Board("abc", 3), ("abc", "012"))] + strange_objects()
 
 NO_WORDS = ["", "a", "ab", "abca", "abd", "ABC", "ab ", "abc\n", "012", 0, 3, -1, b"abc", ("a", "b", "c"),

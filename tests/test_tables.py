@@ -428,7 +428,11 @@ class ErrorsTest(unittest.TestCase):
 class UnchangedTest(unittest.TestCase):
     def test_no_call_changes_the_history_or_later_results(self):
         history = sample_history()
-        first = [table(history), is_possible(history, ("at", 0, "c")), is_sure(history, ("at", 2, "c"))]
+
+        def results():
+            return [table(history), is_possible(history, ("at", 0, "c")), is_sure(history, ("at", 2, "c"))]
+
+        first = results()
         for fact in (None, ("at", 4, "a"), ("at", 0, "a"), ("most", "c", 0)):
             for call in (is_possible, is_sure):
                 try:
@@ -436,7 +440,7 @@ class UnchangedTest(unittest.TestCase):
                 except (InvalidFact, InvalidFacts):
                     pass
         same_words(history, history.without(0))
-        self.assertEqual([table(history), is_possible(history, ("at", 0, "c")), is_sure(history, ("at", 2, "c"))], first)
+        self.assertEqual(results(), first)
         self.assertEqual(history, sample_history())
 
     def test_the_functions_are_defined_where_they_are_listed(self):
