@@ -1,6 +1,7 @@
 """Checks of arguments that several modules share."""
 
-from guessmarks.errors import InvalidMarks, InvalidWord
+from guessmarks.errors import InvalidGuesses, InvalidMarks, InvalidWord
+from guessmarks.limits import MOST_GUESSES
 
 MARKS = "012"
 
@@ -47,3 +48,12 @@ def check_marks(board, told):
     """Raise InvalidMarks unless this is a string of marks of the board."""
     if not are_marks(board, told):
         raise InvalidMarks(told)
+
+
+def check_guesses(board, guesses):
+    """Raise InvalidGuesses unless this is a tuple of words of the board that is not too long."""
+    if not isinstance(guesses, tuple) or len(guesses) > MOST_GUESSES:
+        raise InvalidGuesses(None)
+    for index, guess in enumerate(guesses):
+        if not is_word(board, guess):
+            raise InvalidGuesses(index)

@@ -2,9 +2,10 @@
 
 from guessmarks.boards import check_board
 from guessmarks.checks import check_marks, check_word, is_integer_within, is_row
-from guessmarks.errors import InvalidPlace, InvalidRows, NotAHistory, TooManyRows
+from guessmarks.errors import InvalidPlace, InvalidRows, NotAHistory, NoWord, TooManyRows
 from guessmarks.limits import MOST_ROWS
 from guessmarks.marking import marks_of
+from guessmarks.words import has_word
 
 
 class History:
@@ -62,3 +63,9 @@ def check_history(history):
     """Raise NotAHistory unless this is a History."""
     if not isinstance(history, History):
         raise NotAHistory(history)
+
+
+def check_word_left(history):
+    """Raise NoWord unless a word is left."""
+    if not has_word(history.board, history.rows, ()):
+        raise NoWord()

@@ -116,6 +116,11 @@ def common_letters(letters, others):
     return "".join([letter for letter in letters if letter in others])
 
 
+def letters_except(letters, others):
+    """Return those of the letters that are not among the others."""
+    return "".join([letter for letter in letters if letter not in others])
+
+
 def has_word(board, rows, facts):
     """Tell whether a word of the board fits all rows and has all facts."""
     return Words(board, rows, facts).many() > 0

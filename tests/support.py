@@ -4,6 +4,7 @@ from itertools import product
 from random import Random
 
 from guessmarks import errors
+from guessmarks.boards import Board
 from guessmarks.histories import History
 
 ALPHABET = "abcdefghijklmnopqrstuvwxyz"
@@ -272,3 +273,57 @@ def check_refused_facts(test, history, call):
         index = refused(test, errors.InvalidFacts, call, history, *facts).index
         test.assertEqual(index, at)
         test.assertIs(type(index), int)
+
+
+def counted_answers(guess, left):
+    """Return the answers of a guess to a list of words that are left."""
+    numbers = {}
+    for word in left:
+        told = marks_by_definition(guess, word)
+        numbers[told] = numbers.get(told, 0) + 1
+    return tuple(sorted(numbers.items()))
+
+
+def no_words(length):
+    """Return objects that are no words of a board with the letters abc and this length from 2 to 5."""
+    wrong = ["", "a", "abc" * 30, "d" * length, "A" * length, "b" * (length - 1), "b" * (length + 1),
+             " " + "a" * (length - 1), "a" * (length - 1) + "\n", "a" * (length - 1) + " ", "a" * (length - 1) + "d",
+             "0" * length, "a" * (length - 1) + "\u00e4", "ab" * 250, b"abc", b"a" * length, 0, 1, -1, 10 ** 19,
+             ("a",) * length, ["a"] * length, ("a" * length,), ["a" * length], {"a" * length: 1}, Agreeing(), Raising(),
+             Agreeing, nested(15), Board("abc", length), History(Board("abc", length))]
+    return wrong + strange_objects()
+
+
+def no_lists(length):
+    """Return objects that are no tuples, but near to a list of guesses of this length over abc."""
+    good = "a" * length
+    return [[good], [good, good], [], good, "", "abc", {good: 1}, {good}, {}, set(), frozenset([good]), range(length),
+            iter((good,)), (guess for guess in (good,)), None, True, False, 0, 1, -1, 20, b"a" * length, Agreeing(),
+            Raising(), Plain(), Plain, object(), tuple, len, [nested(14)], Board("abc", length), Lookalike()]
+
+
+def check_refused_guesses(test, call):
+    """Check that a call of a list of guesses of the board abc 3 refuses whatever is no such list."""
+    for guesses in no_lists(3):
+        test.assertIsNone(refused(test, errors.InvalidGuesses, call, guesses).index)
+    for many in (21, 22, 40, 100):
+        for wrong in ("abc", "abd", None, 3, ["abc"], Raising()):
+            for at in (0, 10, 20, many - 1):
+                guesses = ["abc"] * many
+                guesses[at] = wrong
+                test.assertIsNone(refused(test, errors.InvalidGuesses, call, tuple(guesses)).index)
+        test.assertIsNone(refused(test, errors.InvalidGuesses, call, (None,) * many).index)
+    for wrong in no_words(3):
+        for many, at in [(1, 0), (2, 0), (2, 1), (5, 2), (20, 0), (20, 9), (20, 19)]:
+            guesses = ["abc"] * many
+            guesses[at] = wrong
+            test.assertEqual(refused(test, errors.InvalidGuesses, call, tuple(guesses)).index, at)
+    for many in (1, 2, 3, 19, 20):
+        for at in range(many):
+            guesses = ["abc", "bbb", "cab", "aab"] * 5
+            guesses[at] = "abcd"
+            index = refused(test, errors.InvalidGuesses, call, tuple(guesses[:many])).index
+            test.assertEqual(index, at)
+            test.assertIs(type(index), int)
+            guesses[at:] = [None] * (20 - at)
+            test.assertEqual(refused(test, errors.InvalidGuesses, call, tuple(guesses)).index, at)

@@ -30,13 +30,42 @@ TABLES = '''
 [True, False, None]
 '''
 
-# The lines about guessmarks.counting in the example of guessmarks/guessing.py.
-COUNTING = '''
+GUESSING = '''
 >>> from guessmarks.counting import count, count_with, nth_word, place_of
+>>> from guessmarks.guessing import answers, best_guess, worst_answer
 >>> from guessmarks.samples import sample_history
 >>> history = sample_history()
 >>> [count(history), nth_word(history, 0), place_of(history, "bece"), count_with(history, ("at", 1, "e"))]
 [7, 'bcce', 3, 5]
+>>> answers(history, "bece")
+(('1120', 1), ('1220', 1), ('1221', 1), ('2022', 1), ('2220', 2), ('2222', 1))
+>>> [worst_answer(history, "aaaa"), best_guess(history, ("aaaa", "aece", "bece"))]
+[('0000', 7), 'bece']
+'''
+
+LISTS = '''
+>>> from guessmarks.boards import Board
+>>> from guessmarks.lists import parting, tells, tells_word, tried, twins
+>>> from guessmarks.marking import marks
+>>> board = Board("abc", 2)
+>>> [tried(board, ("ab", "ca")), tells_word(board, ("aa", "bb")), tells(board, ("ab",), ("aa",)), tells(board, ("aa", "bb"), ("cc",)), twins(board, ("ab", "bc"))]
+[(('ac', 'ab'), (1, 1, 1)), True, False, True, None]
+>>> one, two = parting(board, ("ab",), ("aa",))
+>>> [marks(board, "ab", one) == marks(board, "ab", two), marks(board, "aa", one) == marks(board, "aa", two)]
+[True, False]
+'''
+
+GAMES = '''
+>>> from guessmarks.boards import Board
+>>> from guessmarks.games import Game, attempt
+>>> from guessmarks.histories import History
+>>> from guessmarks.mending import wrong_rows
+>>> game = Game(Board("abc", 3), strict=True)
+>>> game.change(("add", "aab", "210"), ("add", "aca", "222"))
+>>> [game.history.rows, attempt(game, len), game.undo(), len(game), repr(game)]
+[(('aab', '210'), ('aca', '222')), 2, None, 1, 'Game(1 rows)']
+>>> wrong_rows(History(Board("ab", 2), ("aa", "20"), ("ab", "22"), ("ba", "22"), ("bb", "20")))
+(0, 1)
 '''
 
 
@@ -55,8 +84,14 @@ class ExamplesTest(unittest.TestCase):
     def test_tables(self):
         self.assertEqual(failures_of(TABLES, "tables"), (6, ""))
 
-    def test_counting(self):
-        self.assertEqual(failures_of(COUNTING, "counting"), (4, ""))
+    def test_guessing(self):
+        self.assertEqual(failures_of(GUESSING, "guessing"), (7, ""))
+
+    def test_lists(self):
+        self.assertEqual(failures_of(LISTS, "lists"), (7, ""))
+
+    def test_games(self):
+        self.assertEqual(failures_of(GAMES, "games"), (8, ""))
 
     def test_readme(self):
         # A fence would be taken for a part of the result above it.
