@@ -37,3 +37,15 @@ def check_facts(board, facts):
     for index, fact in enumerate(facts):
         if not is_fact(board, fact):
             raise InvalidFacts(index)
+
+
+def has_fact(word, fact):
+    """Tell whether a word has a fact, both known to be of one board."""
+    kind, first, second = fact
+    if kind == "at":
+        return word[first] == second
+    if kind == "not":
+        return word[first] != second
+    if kind == "least":
+        return word.count(first) >= second
+    return word.count(first) <= second

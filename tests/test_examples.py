@@ -69,6 +69,35 @@ GAMES = '''
 '''
 
 
+CERTIFICATES = '''
+>>> from guessmarks.certificates import certify, certify_parting
+>>> from guessmarks.checker import holds
+>>> from guessmarks.boards import Board
+>>> from guessmarks.histories import History
+>>> history = History(Board("abc", 3), ("abc", "100"))
+>>> [certify(History(Board("ab", 1)), ("at", 0, "b")), certify_parting(Board("abc", 2), ("aa", "bb"), ("cc",))]
+[(('possible', 'ab', 1, (), (('at', 0, 'b'),)), 'b'), None]
+>>> claim, paper = certify(history)
+>>> [claim, holds(claim, paper), holds(claim, ("places", (0,))), holds(claim, ("letters", "a")), holds(claim, "bbb")]
+[('impossible', 'abc', 3, (('abc', '100'),), ()), True, True, False, False]
+'''
+
+REPORTS = r'''
+>>> from guessmarks.reports import answer_text, table_text
+>>> from guessmarks.samples import sample_history
+>>> [table_text(sample_history()).split("\n")[2:6], answer_text(sample_history(), "aaaa")]
+[['2: c', '3: bce', 'a: 0-0', 'b: 1-2'], '0000 7']
+'''
+
+CONSOLE = '''
+>>> from guessmarks.console import Console
+>>> from guessmarks.boards import Board
+>>> console = Console(Board("abc", 3))
+>>> [console.say("add aab 210"), console.say("letters"), console.say("worst aba"), console.say("add abc 222"), console.say("show"), console.say("undo"), console.say("drop 0")]
+['1', 'a c a', '202 1', 'refused', 'aab 210', '27', 'refused']
+'''
+
+
 def failures_of(text, name):
     """Return what doctest says of the examples that fail."""
     told = []
@@ -92,6 +121,15 @@ class ExamplesTest(unittest.TestCase):
 
     def test_games(self):
         self.assertEqual(failures_of(GAMES, "games"), (8, ""))
+
+    def test_certificates(self):
+        self.assertEqual(failures_of(CERTIFICATES, "certificates"), (8, ""))
+
+    def test_reports(self):
+        self.assertEqual(failures_of(REPORTS, "reports"), (3, ""))
+
+    def test_console(self):
+        self.assertEqual(failures_of(CONSOLE, "console"), (4, ""))
 
     def test_readme(self):
         # A fence would be taken for a part of the result above it.

@@ -170,8 +170,8 @@ class AddTest(unittest.TestCase):
             refused(self, TooManyRows, game.add, "aca", "222")
 
     def test_a_row_that_leaves_no_word(self):
-        for rows, row in [((), ("abc", "221")), ((), ("aab", "010")), (ROWS[:1], ("abc", "222")), (ROWS, ("aca", "000")),
-                          (ROWS[:4], ("bbb", "200"))]:
+        for rows, row in [((), ("abc", "221")), ((), ("aab", "010")), (ROWS[:1], ("abc", "222")),
+                          (ROWS, ("aca", "000")), (ROWS[:4], ("bbb", "200"))]:
             game = game_with(*rows)
             before = states(game)
             refused(self, NoWord, game.add, *row)
@@ -342,9 +342,10 @@ class ChangeTest(unittest.TestCase):
 
     def test_a_deed_that_fails(self):
         good = [("add", *ROWS[2]), ("drop", 0), ("add", *ROWS[3])]
-        for wrong, kind, value in [(("add", "abd", "000"), InvalidWord, "abd"), (("add", None, None), InvalidWord, None),
-                                   (("add", "abc", "9"), InvalidMarks, "9"), (("drop", 9), InvalidPlace, 9),
-                                   (("drop", True), InvalidPlace, True), (("drop", "0"), InvalidPlace, "0")]:
+        for wrong, kind, value in [(("add", "abd", "000"), InvalidWord, "abd"),
+                                   (("add", None, None), InvalidWord, None), (("add", "abc", "9"), InvalidMarks, "9"),
+                                   (("drop", 9), InvalidPlace, 9), (("drop", True), InvalidPlace, True),
+                                   (("drop", "0"), InvalidPlace, "0")]:
             for at in range(4):
                 game = game_with(*ROWS[:2])
                 before = states(game)
