@@ -298,6 +298,19 @@ class LargeBoardsTest(PairsTest):
             self.check_twins(board, guesses_of_line(line, {**dict.fromkeys(line, 3), letter: 2}, "z"), False)
             self.check_twins(board, guesses_of_line(line, {**dict.fromkeys(line, 4), letter: 2}, "z"), True)
 
+    def test_chains_of_several_steps_on_both_sides_of_the_place_that_is_seen(self):
+        # The other guess sees whether d or e stands at place 3. The chain from b over c and d to e takes up three
+        # places, and leaves enough for one copy of b and two of e; a chain with any other ends is too expensive.
+        line = "abcdefg"
+        board = Board("abcdefgz", 6)
+        for turned in (1, -1):
+            for most, wanted in [((5, 1, 4, 4, 2, 4, 5), False), ((5, 2, 4, 4, 2, 4, 5), True),
+                                 ((5, 1, 4, 4, 3, 4, 5), True), ((5, 1, 4, 4, 4, 1, 5), False),
+                                 ((5, 1, 4, 4, 4, 2, 5), True), ((5, 1, 4, 2, 2, 4, 5), False)]:
+                guesses = [guess[::turned] for guess in guesses_of_line(line, dict(zip(line, most)), "z")]
+                self.check_parting(board, tuple(guesses), ("zzzdzz"[::turned],), wanted)
+                self.check_parting(board, tuple(guesses), ("zzzezz"[::turned],), wanted)
+
     def test_copies_that_are_asked_above_the_tried_number(self):
         wanted = {}
         for letters in ("abc", "abcd", "abcde", ALPHABET[:12], ALPHABET):
